@@ -22,7 +22,7 @@ func (r *reader) class() int {
 	from := r.from()
 	r.want("class")
 	n := api.Node{Kind: api.ClassOf, Text: r.name()}
-	if r.take("extends") {
+	if r.sees("extends") {
 		n.Kids = append(n.Kids, r.ancestor())
 	}
 	r.want("{")
@@ -33,9 +33,10 @@ func (r *reader) class() int {
 	return r.make(n, from)
 }
 
-// ancestor: the name of a class's ancestor.
+// ancestor: the name of a class's ancestor, which is read with the word ahead of it.
 func (r *reader) ancestor() int {
 	from := r.from()
+	r.want("extends")
 	return r.make(api.Node{Kind: api.Ancestor, Text: r.name()}, from)
 }
 

@@ -211,6 +211,10 @@ func TestManyNodes(t *testing.T) {
 	if _, f := Parse("class Z {} " + filled(full, behind)); f != (api.Fault{Code: api.ErrLong, At: 0}) {
 		t.Errorf("a class more: %v", f)
 	}
+	text := filled(full+1, behind)
+	if _, f := Parse(text + " class B extends A {}"); f != (api.Fault{Code: api.ErrLong, At: len(text + " class B ")}) {
+		t.Errorf("an ancestor's name more: %v", f)
+	}
 }
 
 // P8.2: that there are too many nodes is told ahead of what else is wrong with what would be one too many.

@@ -431,8 +431,8 @@ func (w *teller) program() api.Tree {
 		n := api.Node{Kind: api.ClassOf, Text: w.name()}
 		var kids []int
 		if w.Intn(3) == 0 {
-			w.put("extends")
 			at := w.here()
+			w.put("extends")
 			kids = []int{w.add(at, api.Node{Kind: api.Ancestor, Text: w.name()})}
 		}
 		w.put("{")

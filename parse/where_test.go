@@ -55,7 +55,7 @@ func TestStanding(t *testing.T) {
 		}
 	}
 	_, list := standing(t, " // a\nclass A extends // b\n B { A ? x ; init ( int a , Option < A > b ) { } void f ( ) { } } class C{} // c\n")
-	want := []string{"extends: B", "field: A ? x ;", "param: int a", "param: Option < A > b", "block: { }", "init: init ( int a , Option < A > b ) { }", "block: { }", "method: void f ( ) { }"}
+	want := []string{"extends: extends // b\n B", "field: A ? x ;", "param: int a", "param: Option < A > b", "block: { }", "init: init ( int a , Option < A > b ) { }", "block: { }", "method: void f ( ) { }"}
 	if !slices.Equal(list[:8], want) || len(list) != 11 || !strings.HasPrefix(list[8], "class: class A ext") || list[9] != "class: class C{}" || !strings.HasPrefix(list[10], "program: class A") || !strings.HasSuffix(list[10], "class C{}") {
 		t.Errorf("%q", list)
 	}
