@@ -310,6 +310,7 @@ func TestSigns(t *testing.T) {
 func TestIdentity(t *testing.T) {
 	prints(t, "A a = new A(1); A b = new A(1); A c = a; B d = new B(); A e = d; print(a == b); print(a == c); print(a != b); print(a != c); print(d == e); print(e == d); print(a == null); print(null == a); print(null == null); A f; print(f == null); print(f == a); print(null != f);", "false true true false true true false false true true false false")
 	prints(t, "int[] a = new int[0]; int[] b = new int[0]; print(a == b); print(a == a); print(a != null); b = null; print(b == null); print(null == null);", "false true true true true")
+	prints(t, "int[] a = new int[1]; Option<int[]> o = some(a); print(a == o); print(a != o); print(o == o); o = none; print(null == o); a = null; print(a == o); double[] d = new double[1]; Option<double[]> e = some(d); print(d == e); print(d == d);", "false true true false false false true")
 	prints(t, "A a = new A(1); Option<A> o = some(a); Option<A> p = some(a); Option<A> q = none; Option<A> r = null; print(o == p); print(o == a); print(q == null); print(q == q); print(q != o); print(r == null); print(r == q); p = a; print(p == a);", "true false false true true true false true")
 }
 
